@@ -329,9 +329,12 @@ func TestText(t *testing.T) {
 		{tree(text("a"), elem("p", text("b"), elem("br"), elem("i", elem("u", text("c")), text("d"))), text("e")), "abcde"},
 		{tree(elem("script", text("<x>"))), "<x>"}, {tree(text("\xff\x00")), "\xff\x00"},
 		{tree(api.Node{Name: "a", Attrs: []api.Attr{{Name: "b", Value: "c"}}}), ""},
-		// Trees that are none: an element's Text is no text.
-		{tree(api.Node{Name: "a", Text: "b", Kids: tree(text("c"))}), "c"},
-		{tree(api.Node{Text: "b", Kids: tree(text("c"))}), "bc"},
+		// Trees that were not built: each node's own Text, ahead of what is within.
+		{tree(api.Node{Name: "b", Text: "x"}), "x"}, {tree(api.Node{Name: "br", Text: "x"}, api.Node{Name: "p", Text: "y"}), "xy"},
+		{tree(api.Node{Name: "a", Text: "b", Kids: tree(text("c"))}), "bc"},
+		{tree(api.Node{Text: "b", Kids: tree(text("c"))}), "bc"}, {tree(api.Node{Text: "t", Kids: tree(api.Node{Name: "b", Text: "x"})}), "tx"},
+		{tree(text("a"), api.Node{Name: "b", Text: "x", Kids: tree(text("y"), api.Node{Name: "i", Text: "z"})}, text("c")), "axyzc"},
+		{tree(api.Node{Name: "b", Attrs: []api.Attr{{Name: "c", Value: "d"}}, Kids: tree(api.Node{Name: "i", Text: "\xff"}, elem("u"))}), "\xff"},
 	} {
 		if got := Text(c.l); got != c.want {
 			t.Errorf("Text(%+v) is %q, not %q", c.l, got, c.want)
@@ -417,10 +420,9 @@ func TestAnswersAreNew(t *testing.T) {
 	if !same(got, want) || all != "xxy" {
 		t.Errorf("the tree shares what was handed in: %+v, %q", got, all)
 	}
-	of := tree(api.Node{Text: part(0)})
-	one := Text(of)
+	one, two := Text(tree(api.Node{Text: part(0)})), Text(tree(api.Node{Name: "b", Text: part(0)}))
 	b[0] = 'y'
-	if one != "z" {
+	if one != "z" || two != "z" {
 		t.Error("Text shares a text")
 	}
 	got[1].Attrs[0].Name = "w"

@@ -271,6 +271,82 @@ func TestAllShortListsAtTheLimits(t *testing.T) {
 	checkFrom(t, both, 2, of)
 }
 
+// spot is a node where it begins in a tree: how many nodes it stands within,
+// and whether it has a Name and a Text.
+type spot struct {
+	in          int
+	named, told bool
+}
+
+// allSpots hands on all lists that are l and at most so many spots more.
+func allSpots(l []spot, more int, each func([]spot)) {
+	each(l)
+	if more == 0 {
+		return
+	}
+	most := 0
+	if len(l) > 0 {
+		most = l[len(l)-1].in + 1
+	}
+	for in := range most + 1 {
+		for kind := range 4 {
+			allSpots(append(slices.Clone(l), spot{in, kind&1 > 0, kind&2 > 0}), more-1, each)
+		}
+	}
+}
+
+// ofSpots is the tree of spots; the first has the place at.
+func ofSpots(l []spot, at int) []api.Node {
+	var out []api.Node
+	for i := 0; i < len(l); {
+		end := i + 1
+		for end < len(l) && l[end].in > l[i].in {
+			end++
+		}
+		n := api.Node{Kids: ofSpots(l[i+1:end], at+i+1)}
+		if l[i].named {
+			n.Name = "b"
+		}
+		if l[i].told {
+			n.Text = string(rune('0' + at + i))
+		}
+		out = append(out, n)
+		i = end
+	}
+	return out
+}
+
+// TestAllSmallTrees: Text and Size of trees that need not be built, by spots:
+// there a node's Text, and its depth, hang on no node's Kids.
+func TestAllSmallTrees(t *testing.T) {
+	allSpots(nil, 5, func(l []spot) {
+		var texts string
+		var deep int
+		var around [6]int // how many elements a spot's node is, and stands within
+		for i, r := range l {
+			if r.in > 0 {
+				around[r.in] = around[r.in-1]
+			} else {
+				around[0] = 0
+			}
+			if r.named {
+				around[r.in]++
+				deep = max(deep, around[r.in])
+			}
+			if r.told {
+				texts += strconv.Itoa(i)
+			}
+		}
+		of := ofSpots(l, 0)
+		if s := Text(of); s != texts {
+			t.Fatalf("Text(%+v) is %q, not %q", of, s, texts)
+		}
+		if nodes, d := Size(of); nodes != len(l) || d != deep {
+			t.Fatalf("Size(%+v) is %d, %d, not %d, %d", of, nodes, d, len(l), deep)
+		}
+	})
+}
+
 // FuzzTexts asks of a page's tokens, and of a list of known ones, each told by
 // a byte.
 func FuzzTexts(f *testing.F) {
